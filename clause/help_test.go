@@ -7,6 +7,7 @@ import (
 	"testing"
 
 	"crossroads/api"
+	"crossroads/room"
 )
 
 // numbers are what a list of these tests has: literals over three numbers, the two that are none, and the ends of int.
@@ -57,62 +58,29 @@ func random(r *rand.Rand, n, to int) []int {
 	return c
 }
 
-// roomy is f once more, each list of it with spare room, in which other numbers stand.
-func roomy(f [][]int) [][]int {
-	r := make([][]int, 0, len(f)+2)
-	for _, c := range f {
-		d := append(slices.Clone(c), 1, -1, 9)
-		r = append(r, d[:len(c)])
-	}
-	return append(r, []int{7}, []int{-7})[:len(f)]
-}
-
-// whole is a copy of f with all the spare rooms of its lists, and how long each of them is.
-func whole(f [][]int) (r [][]int, lens []int) {
-	for _, c := range f[:cap(f)] {
-		r, lens = append(r, slices.Clone(c[:cap(c)])), append(lens, len(c))
-	}
-	return r, append(lens, len(f))
-}
-
 // unchanged fails the test where call changes the formula that it is given, spare room included.
 func unchanged(t *testing.T, what string, f [][]int, call func(f [][]int)) {
 	t.Helper()
-	g := roomy(f)
-	lists, lens := whole(g)
+	g := room.Lists(f)
+	was := room.Copy(g)
 	call(g)
-	lists1, lens1 := whole(g)
-	if !slices.EqualFunc(lists, lists1, slices.Equal) || !slices.Equal(lens, lens1) {
+	if !room.Same(g, was) {
 		t.Errorf("%s(%v) changed what it was given", what, f)
-	}
-}
-
-// scribble writes over a list, spare room included.
-func scribble(c []int) {
-	for i := range c[:cap(c)] {
-		c[:cap(c)][i] = 4
-	}
-}
-
-// overwrite writes over all lists of a formula, spare rooms included.
-func overwrite(f [][]int) {
-	for _, c := range f[:cap(f)] {
-		scribble(c)
 	}
 }
 
 // newMemory fails the test where what call answers to the formula of one clause c, which is want, shares memory with what it is given or with another answer.
 func newMemory(t *testing.T, what string, c, want []int, call func(f [][]int) []int) {
 	t.Helper()
-	f := roomy([][]int{c})
+	f := room.Lists([][]int{c})
 	first, second := call(f), call(f)
-	overwrite(f)
+	room.Fill(f...)
 	if !slices.Equal(first, want) {
 		t.Errorf("%s of %v shares memory with what was handed in", what, c)
 	}
-	scribble(first)
+	room.Fill(first)
 	if !slices.Equal(second, want) {
 		t.Errorf("two answers to %s of %v share memory", what, c)
 	}
-	unchanged(t, what, [][]int{c}, func(f [][]int) { scribble(call(f)) })
+	unchanged(t, what, [][]int{c}, func(f [][]int) { room.Fill(call(f)) })
 }
