@@ -9,6 +9,7 @@ import (
 
 	"crossroads/api"
 	"crossroads/files"
+	"crossroads/room"
 )
 
 // paths are those that are looked at: of one part and of two, of which some are in what is a directory in one tree and a file in another.
@@ -38,27 +39,6 @@ func told(n uint16) string {
 
 // shown is bytes as a text, with _ for noughts.
 func shown(b []byte) string { return strings.ReplaceAll(string(b), "\x00", "_") }
-
-// bytesOf are the bytes of such a text, with spare room in which others are; nil of an empty one.
-func bytesOf(text string) []byte {
-	if text == "" {
-		return nil
-	}
-	return append([]byte(strings.ReplaceAll(text, "_", "\x00")), "#+#"...)[:len(text)]
-}
-
-// entries are those of texts with blanks between them, and data the bytes of their files: "a=xyz" is a file that has xyz, "d/" a directory.
-func entries(text string) (l []api.Entry, data [][]byte) {
-	for _, s := range strings.Fields(text) {
-		path, isDir := strings.CutSuffix(s, "/")
-		path, has, _ := strings.Cut(path, "=")
-		l = append(l, api.Entry{Path: path, Dir: isDir})
-		if !isDir {
-			data = append(data, bytesOf(has))
-		}
-	}
-	return l, data
-}
 
 // calls are what files and their model have in common.
 type calls interface {
@@ -98,7 +78,7 @@ func (c call) of(x calls) string {
 	case "read":
 		b, n = x.Read(c.fd, c.n)
 	case "write":
-		n = x.Write(c.fd, bytesOf(c.b))
+		n = x.Write(c.fd, room.Bytes(c.b))
 	case "seek":
 		n = x.Seek(c.fd, c.n)
 	case "size":
@@ -162,7 +142,7 @@ type tested struct {
 // grown is the files of entries of that text, which New has to take.
 func grown(t *testing.T, from string) *tested {
 	t.Helper()
-	f, e := files.New(entries(from))
+	f, e := files.New(room.Entries(from))
 	if f == nil || e != api.OK {
 		t.Fatalf("New(%s) = %v, %d", from, f, int(e))
 	}
@@ -234,7 +214,7 @@ func (k *tested) refuses(word, calls string, paths ...string) {
 func look(from string, made []call) string {
 	var b strings.Builder
 	for _, row := range rows() {
-		l, data := entries(from)
+		l, data := room.Entries(from)
 		f, _ := files.New(l, data)
 		for _, c := range made {
 			c.of(f)

@@ -7,6 +7,7 @@ import (
 
 	"crossroads/api"
 	"crossroads/files"
+	"crossroads/room"
 )
 
 // R4: what is handed in and what is answered shares no memory with what is kept; R7: nil.
@@ -21,7 +22,7 @@ func fill(b []byte) {
 
 // roomy is data of three files, with spare room everywhere.
 func roomy() [][]byte {
-	rows := [][]byte{bytesOf("abc"), make([]byte, 0, 16), bytesOf("12345678")}
+	rows := [][]byte{room.Bytes("abc"), make([]byte, 0, 16), room.Bytes("12345678")}
 	return append(rows, []byte("more"))[:3]
 }
 
@@ -36,7 +37,7 @@ func lengthy(rows [][]byte) []byte {
 
 // TestNewKeepsNothing: what becomes of l and data afterwards does not show, and calls do not show in them.
 func TestNewKeepsNothing(t *testing.T) {
-	l, _ := entries("a d/ b c")
+	l, _ := room.Entries("a d/ b c")
 	data := roomy()
 	was, wasL := lengthy(data), slices.Clone(l)
 	f, _ := files.New(l, data)
@@ -60,7 +61,7 @@ func TestNewKeepsNothing(t *testing.T) {
 // TestNewRefusedLeaves: what is handed in is not changed where it is refused, too.
 func TestNewRefusedLeaves(t *testing.T) {
 	for _, from := range []string{"a", "a b c d", "a A b"} {
-		l, _ := entries(from)
+		l, _ := room.Entries(from)
 		data := roomy()
 		was, wasL := lengthy(data), slices.Clone(l)
 		if f, e := files.New(l, data); f != nil || e == api.OK || !bytes.Equal(lengthy(data), was) || !slices.Equal(l, wasL) {
@@ -73,7 +74,7 @@ func TestNewRefusedLeaves(t *testing.T) {
 func TestWriteKeepsNothing(t *testing.T) {
 	for _, text := range []string{"x", "xyz", "12345678", "123456789ab"} {
 		k := plays(t, "a=abc", "open a: 0")
-		b := bytesOf(text)
+		b := room.Bytes(text)
 		was := slices.Clone(b[:cap(b)])
 		k.Write(0, b)
 		want, _ := k.Data("a")
@@ -134,7 +135,7 @@ func TestAnswersAreNew(t *testing.T) {
 
 // TestNewFilesAreApart: two of one list and data.
 func TestNewFilesAreApart(t *testing.T) {
-	l, data := entries("a=abc d/ b=de")
+	l, data := room.Entries("a=abc d/ b=de")
 	x, _ := files.New(l, data)
 	y, _ := files.New(l, data)
 	for _, text := range []string{"open a", "write 0 xyz", "mkdir e", "unlink b"} {

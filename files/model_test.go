@@ -8,6 +8,7 @@ import (
 
 	"crossroads/api"
 	"crossroads/names"
+	"crossroads/room"
 )
 
 // A node is a file or a directory; a spot is what is open, with an offset.
@@ -30,7 +31,7 @@ type model struct {
 // modelOf is the model of entries of that text.
 func modelOf(from string) *model {
 	m := &model{at: map[string]*node{}}
-	l, data := entries(from)
+	l, data := room.Entries(from)
 	for _, e := range l {
 		x := &node{dir: e.Dir}
 		if !e.Dir {

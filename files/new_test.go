@@ -6,6 +6,7 @@ import (
 
 	"crossroads/api"
 	"crossroads/files"
+	"crossroads/room"
 )
 
 // P14.1, New and descriptors.
@@ -50,7 +51,7 @@ func TestNewNothing(t *testing.T) {
 // news fails the test where New does not answer that error, beside nil but where all is well.
 func news(t *testing.T, from string, data [][]byte, want api.Errno) {
 	t.Helper()
-	l, _ := entries(from)
+	l, _ := room.Entries(from)
 	if f, e := files.New(l, data); e != want || (f == nil) != (want != api.OK) {
 		t.Errorf("New(%s, %q) = %v, %d; want %d", from, data, f, int(e), int(want))
 	}
@@ -116,7 +117,7 @@ func TestNewTree(t *testing.T) {
 		"d/ d/e/", "e/f/", // a directory that is deeper
 		"a a", "a a/", "a/ a", "d/ d/", "d/ d/a d/a", // one path twice
 	} {
-		l, data := entries(from)
+		l, data := room.Entries(from)
 		news(t, from, data, api.ErrClass)
 		news(t, from, nil, api.ErrClass)
 		news(t, from, rowsOf(len(l)+1, "x"), api.ErrClass)
